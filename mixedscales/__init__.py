@@ -1,0 +1,1 @@
+"""Mixedscales: numbers written by rows of bases."""

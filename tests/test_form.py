@@ -1,0 +1,88 @@
+"""The form of the package's own files, as far as a test sees it at once."""
+
+import ast
+import pathlib
+import re
+import unittest
+
+PACKAGE = pathlib.Path(__file__).resolve().parent.parent / "mixedscales"
+NOT_USED = (
+    ast.With, ast.Match, ast.Delete, ast.Global, ast.Nonlocal, ast.Assert, ast.Yield, ast.YieldFrom, ast.Await,
+    ast.AsyncFunctionDef, ast.AsyncFor, ast.AsyncWith, ast.SetComp, ast.DictComp, ast.GeneratorExp,
+    ast.NamedExpr, ast.Starred, ast.Import, ast.Div, ast.AnnAssign,
+)
+WORDS = (
+    "type", "typing", "typing_extensions", "enum", "Enum", "IntEnum", "StrEnum", "Flag", "IntFlag", "Generic",
+    "Protocol", "ABC", "ABCMeta", "namedtuple", "NamedTuple", "TypedDict", "TYPE_CHECKING", "abstractmethod",
+)
+PARTS = ("dataclass", "overload", "contextmanager")
+OWN_METHODS = ("__init__", "__eq__", "__repr__", "__str__", "__len__")
+
+
+def files():
+    return sorted(path for path in PACKAGE.iterdir() if path.name != "__pycache__")
+
+
+def nodes(path):
+    return list(ast.walk(ast.parse(path.read_text(encoding="ascii"))))
+
+
+class FormTest(unittest.TestCase):
+    def test_files_and_signs(self):
+        self.assertTrue((PACKAGE / "__init__.py").is_file())
+        for path in files():
+            with self.subTest(path=path.name):
+                self.assertRegex(path.name, r"^[a-z0-9_]+\.py$")
+                self.assertRegex(path.read_bytes().decode("utf-8"), r"^[ -~\n]*$")
+
+    def test_size(self):
+        for path in files():
+            lines = path.read_text(encoding="ascii").split("\n")
+            self.assertLessEqual(len(lines), 400, path.name)
+            self.assertLessEqual(max(len(line) for line in lines), 120, path.name)
+            for node in nodes(path):
+                if isinstance(node, ast.FunctionDef):
+                    self.assertLessEqual(node.end_lineno - node.lineno + 1, 40, (path.name, node.name))
+
+    def test_words(self):
+        for path in files():
+            text = path.read_text(encoding="ascii")
+            for word in WORDS:
+                self.assertIsNone(re.search(rf"\b{word}\b", text), (path.name, word))
+            for part in PARTS:
+                self.assertNotIn(part, text, path.name)
+
+    def test_statements_and_expressions(self):
+        for path in files():
+            for node in nodes(path):
+                with self.subTest(path=path.name, line=getattr(node, "lineno", 0)):
+                    self.assertNotIsInstance(node, NOT_USED)
+                    self.assertEqual(getattr(node, "decorator_list", []), [])
+                    if isinstance(node, (ast.For, ast.While)):
+                        self.assertEqual(node.orelse, [])
+                    if isinstance(node, ast.Try):
+                        self.assertEqual(node.finalbody, [])
+                    if isinstance(node, ast.Assign):
+                        self.assertEqual(len(node.targets), 1)
+                    if isinstance(node, ast.Constant):
+                        self.assertNotIsInstance(node.value, (float, complex, bytes))
+
+    def test_imports(self):
+        for path in files():
+            for node in nodes(path):
+                if isinstance(node, ast.ImportFrom):
+                    self.assertEqual(node.level, 0, path.name)
+                    self.assertRegex(node.module, r"^mixedscales\.[a-z0-9_]+$", path.name)
+                    self.assertNotIn("*", [alias.name for alias in node.names], path.name)
+
+    def test_names(self):
+        for path in files():
+            for node in nodes(path):
+                name = getattr(node, "name", None) or getattr(node, "id", None) or getattr(node, "attr", None)
+                name = name or getattr(node, "arg", None)
+                if isinstance(name, str) and name not in OWN_METHODS:
+                    self.assertFalse(name.startswith("_"), (path.name, name))
+
+
+if __name__ == "__main__":
+    unittest.main()

@@ -1,0 +1,160 @@
+"""Promises [1], [2] and [3]: what holds over the whole program."""
+
+import copy
+import unittest
+
+from mixedscales.errors import ScaleError
+from mixedscales.scales import base_at, digits_of, number_of, worth_at
+from mixedscales.sums import added, sum_shown, taken_off
+
+CLOCK = ((60, 60, 24), ())
+LONG_HEAD = tuple(range(2, 14))
+SCALES = (
+    ((), (2,)),
+    ((), (10,)),
+    ((60, 60, 24), (7,)),
+    (LONG_HEAD, (3, 7)),
+    ((4, 3), (2, 5, 7)),
+    (LONG_HEAD, tuple(10 ** 6 - step for step in range(12))),
+    ((), (10 ** 6,)),
+)
+ASKED = (
+    (base_at, (CLOCK, 2)),
+    (base_at, (CLOCK, 3)),
+    (worth_at, (((60,), (7, 2)), 300)),
+    (worth_at, (CLOCK, -1)),
+    (digits_of, (CLOCK, 3725)),
+    (digits_of, (CLOCK, 86400)),
+    (number_of, (CLOCK, (5, 2, 1))),
+    (number_of, (CLOCK, (5, 60, 1))),
+    (added, (CLOCK, (50, 59, 1), (20, 0, 0))),
+    (added, (CLOCK, (50, 59, 23), (20,))),
+    (taken_off, (CLOCK, (10, 0, 4), (20, 0))),
+    (taken_off, (CLOCK, (10,), (20, 0))),
+    (sum_shown, (CLOCK, (50,), (20,), (10, 1, 0), (1,))),
+    (sum_shown, (CLOCK, (50,), (20,), (10, 1, 0), (0,))),
+)
+
+
+def answer(asked, handed):
+    """What is told, or the refusal as (its name, its place)."""
+    try:
+        return asked(*handed)
+    except ScaleError as refusal:
+        return (type(refusal).__name__, getattr(refusal, "place", None))
+
+
+def long_numbers():
+    """Whole numbers of up to 60 figures, the same each time."""
+    numbers = [0, 1, 10 ** 60 - 1, 10 ** 59]
+    number = 123456789
+    while len(numbers) < 40:
+        number = (number * 6364136223846793005 + 1442695040888963407) % 10 ** 60
+        numbers.append(number)
+    return numbers
+
+
+def long_row(scale, step):
+    """A row of 85 digits, the same each time; each seventh the greatest one."""
+    bases = [base_at(scale, place) for place in range(85)]
+    return tuple(
+        base - 1 if (place + step) % 7 == 0 else (place * 7919 + step * 104729) % base
+        for place, base in enumerate(bases)
+    )
+
+
+def is_row(told):
+    return type(told) is tuple and all(type(digit) is int for digit in told)
+
+
+class SameAgainTest(unittest.TestCase):
+    def test_the_same_asked_again_is_answered_the_same(self):
+        first = [answer(asked, handed) for asked, handed in ASKED]
+        again = [answer(asked, handed) for asked, handed in reversed(ASKED)]
+        self.assertEqual(first, again[::-1])
+
+    def test_what_is_handed_in_stays_as_it_was(self):
+        for asked, handed in ASKED:
+            before = copy.deepcopy(handed)
+            answer(asked, handed)
+            self.assertEqual(handed, before)
+
+    def test_what_was_told_stays_as_it_was(self):
+        told = added(CLOCK, (50, 59, 1), (20,))
+        before = copy.deepcopy(told)
+        for asked, handed in ASKED:
+            answer(asked, handed)
+        self.assertEqual(told, before)
+
+
+class KindsTest(unittest.TestCase):
+    def test_numbers_are_whole_numbers_and_no_truths(self):
+        for told in (base_at(CLOCK, 1), worth_at(CLOCK, 0), worth_at(CLOCK, 2), number_of(CLOCK, ())):
+            self.assertIs(type(told), int)
+
+    def test_rows_are_tuples_of_whole_numbers(self):
+        self.assertTrue(is_row(digits_of(CLOCK, 3725)))
+        self.assertTrue(is_row(digits_of(CLOCK, 0)))
+        for told in (
+            added(CLOCK, (50, 59), (20,)),
+            added(CLOCK, (), ()),
+            taken_off(CLOCK, (10, 0, 4), (20,)),
+            taken_off(CLOCK, (10,), (10,)),
+        ):
+            self.assertIs(type(told), tuple)
+            self.assertEqual(len(told), 2)
+            self.assertTrue(is_row(told[0]) and is_row(told[1]))
+
+    def test_the_looker_tells_a_truth(self):
+        self.assertIs(type(sum_shown(CLOCK, (1,), (1,), (2,), (0,))), bool)
+        self.assertIs(type(sum_shown(CLOCK, (99,), (1,), (2,), (0,))), bool)
+
+
+class GreatTest(unittest.TestCase):
+    def test_numbers_of_60_figures_are_told_back(self):
+        for scale in SCALES:
+            for number in long_numbers():
+                digits = digits_of(scale, number)
+                self.assertEqual(number_of(scale, digits), number)
+                self.assertNotEqual(digits[-1:], (0,))
+
+    def test_sums_of_60_figures_are_what_the_numbers_are(self):
+        numbers = long_numbers()
+        for scale in SCALES:
+            for one, other in zip(numbers, numbers[1:] + numbers[:1]):
+                great = digits_of(scale, max(one, other))
+                less = digits_of(scale, min(one, other))
+                told = added(scale, great, less)
+                self.assertEqual(told[0], digits_of(scale, one + other))
+                self.assertTrue(sum_shown(scale, great, less, told[0], told[1]))
+                self.assertEqual(taken_off(scale, great, less)[0], digits_of(scale, abs(one - other)))
+                self.assertEqual(taken_off(scale, told[0], less)[0], great)
+
+    def test_carries_and_what_is_lent_by_the_numbers(self):
+        numbers = long_numbers()
+        for scale in SCALES:
+            one, other = numbers[7], numbers[8]
+            rows = (digits_of(scale, one), digits_of(scale, other))
+            carries = added(scale, *rows)[1]
+            lent = taken_off(scale, digits_of(scale, one + other), rows[0])[1]
+            self.assertEqual(len(carries), max(len(rows[0]), len(rows[1])))
+            for place, carried in enumerate(carries):
+                worth = worth_at(scale, place + 1)
+                self.assertEqual(carried, (one % worth + other % worth) // worth)
+                self.assertEqual(lent[place], int((one + other) % worth < one % worth))
+
+    def test_rows_of_85_digits(self):
+        for scale in SCALES:
+            for step in range(8):
+                one = long_row(scale, step)
+                other = long_row(scale, step + 3)
+                whole = number_of(scale, one) + number_of(scale, other)
+                told = added(scale, one, other)
+                self.assertEqual(len(told[1]), 85)
+                self.assertEqual(told[0], digits_of(scale, whole))
+                self.assertTrue(sum_shown(scale, one, other, told[0], told[1]))
+                self.assertEqual(number_of(scale, taken_off(scale, told[0], other)[0]), number_of(scale, one))
+
+
+if __name__ == "__main__":
+    unittest.main()
