@@ -40,12 +40,18 @@ def worth_at(scale, place):
 
 def digits_of(scale, number):
     """The row of digits of a number from 0 on, the last digit not 0, or TooGreat."""
+    return digits_from(scale, 0, number)
+
+
+def digits_from(scale, start, number):
+    """The row of digits that writes a number of worths of the place start, from that place on, or TooGreat."""
     digits = []
     left = number
     while left > 0:
-        if not has_place(scale, len(digits)):
+        place = start + len(digits)
+        if not has_place(scale, place):
             raise TooGreat("the scale ends before the number does")
-        base = base_at(scale, len(digits))
+        base = base_at(scale, place)
         digits.append(left % base)
         left = left // base
     return tuple(digits)

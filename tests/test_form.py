@@ -1,6 +1,7 @@
 """The form of the package's own files, as far as a test sees it at once."""
 
 import ast
+import builtins
 import pathlib
 import re
 import unittest
@@ -16,6 +17,18 @@ WORDS = (
     "Protocol", "ABC", "ABCMeta", "namedtuple", "NamedTuple", "TypedDict", "TYPE_CHECKING", "abstractmethod",
 )
 PARTS = ("dataclass", "overload", "contextmanager")
+OWN_NAMES = (
+    "len range enumerate zip min max sum abs sorted reversed int str bool list tuple dict set frozenset isinstance ord "
+    "repr any all divmod Exception ValueError TypeError KeyError IndexError LookupError ZeroDivisionError "
+    "ArithmeticError OverflowError RuntimeError NotImplementedError AttributeError StopIteration"
+).split()
+METHODS = (
+    "append clear copy count endswith extend find get index insert isalnum isalpha isdigit islower isspace isupper "
+    "items join keys ljust lower lstrip partition pop remove replace reverse rfind rjust rpartition rsplit rstrip "
+    "setdefault split splitlines startswith strip update upper values zfill bit_length __init__"
+).split()
+WALKED = ("zip", "enumerate", "reversed", "range")
+WALKERS = ("list", "tuple", "dict", "sorted", "sum", "any", "all", "enumerate", "zip", "min", "max")
 OWN_METHODS = ("__init__", "__eq__", "__repr__", "__str__", "__len__")
 
 
@@ -82,6 +95,40 @@ class FormTest(unittest.TestCase):
                 name = name or getattr(node, "arg", None)
                 if isinstance(name, str) and name not in OWN_METHODS:
                     self.assertFalse(name.startswith("_"), (path.name, name))
+
+    def test_names_of_pythons_own(self):
+        for path in files():
+            for node in nodes(path):
+                if not isinstance(node, ast.Name) or node.id not in vars(builtins):
+                    continue
+                with self.subTest(path=path.name, line=node.lineno):
+                    self.assertIn(node.id, OWN_NAMES)
+                    self.assertIsInstance(node.ctx, ast.Load)
+
+    def test_no_name_is_called_like_pythons_own(self):
+        for path in files():
+            for node in nodes(path):
+                if isinstance(node, (ast.FunctionDef, ast.ClassDef)):
+                    self.assertNotIn(node.name, vars(builtins), (path.name, node.name))
+                if isinstance(node, ast.arg):
+                    self.assertNotIn(node.arg, vars(builtins), (path.name, node.arg))
+
+    def test_methods(self):
+        for path in files():
+            for node in nodes(path):
+                if isinstance(node, ast.Call) and isinstance(node.func, ast.Attribute):
+                    self.assertIn(node.func.attr, METHODS, (path.name, node.lineno))
+
+    def test_walked_at_once(self):
+        for path in files():
+            every = nodes(path)
+            walked = [node.iter for node in every if isinstance(node, (ast.For, ast.comprehension))]
+            for node in every:
+                if isinstance(node, ast.Call) and isinstance(node.func, ast.Name) and node.func.id in WALKERS:
+                    walked.extend(node.args if node.func.id == "zip" else node.args[:1])
+            for node in every:
+                if isinstance(node, ast.Call) and isinstance(node.func, ast.Name) and node.func.id in WALKED:
+                    self.assertIn(node, walked, (path.name, node.lineno))
 
 
 if __name__ == "__main__":

@@ -4,10 +4,14 @@ import copy
 import unittest
 
 from mixedscales.errors import ScaleError
+from mixedscales.fractions import fraction_digits, fraction_of
+from mixedscales.orders import next_order, order_number, order_of, orders_apart
+from mixedscales.products import divided, exchanged, multiplied
 from mixedscales.scales import base_at, digits_of, number_of, worth_at
 from mixedscales.sums import added, sum_shown, taken_off
 
 CLOCK = ((60, 60, 24), ())
+DECIMAL = ((), (10,))
 LONG_HEAD = tuple(range(2, 14))
 SCALES = (
     ((), (2,)),
@@ -33,6 +37,25 @@ ASKED = (
     (taken_off, (CLOCK, (10,), (20, 0))),
     (sum_shown, (CLOCK, (50,), (20,), (10, 1, 0), (1,))),
     (sum_shown, (CLOCK, (50,), (20,), (10, 1, 0), (0,))),
+    (multiplied, (CLOCK, (50, 59, 1), 3)),
+    (multiplied, (CLOCK, (50, 59, 1), 86400)),
+    (multiplied, (CLOCK, (50, 60), 1)),
+    (divided, (CLOCK, (50, 59, 0), 7)),
+    (divided, (CLOCK, (50, 59, 24), 7)),
+    (exchanged, (CLOCK, DECIMAL, (50, 59, 1))),
+    (exchanged, (DECIMAL, CLOCK, (0, 0, 4, 6, 8))),
+    (order_number, ((2, 0, 1),)),
+    (order_number, ((2, 0, 2),)),
+    (order_of, (5, 77)),
+    (order_of, (5, 120)),
+    (next_order, ((0, 2, 1),)),
+    (next_order, ((2, 1, 0),)),
+    (orders_apart, ((2, 0, 1), (0, 1, 2))),
+    (orders_apart, ((2, 0, 1), (0, 1))),
+    (fraction_digits, (((4, 3), (2, 5, 7)), (13, 37))),
+    (fraction_digits, (CLOCK, (1, 7))),
+    (fraction_of, (DECIMAL, (1,), (6, 6))),
+    (fraction_of, (DECIMAL, (1,), (6, 10))),
 )
 
 
@@ -80,7 +103,7 @@ class SameAgainTest(unittest.TestCase):
             self.assertEqual(handed, before)
 
     def test_what_was_told_stays_as_it_was(self):
-        told = added(CLOCK, (50, 59, 1), (20,))
+        told = [answer(asked, handed) for asked, handed in ASKED]
         before = copy.deepcopy(told)
         for asked, handed in ASKED:
             answer(asked, handed)
@@ -89,7 +112,17 @@ class SameAgainTest(unittest.TestCase):
 
 class KindsTest(unittest.TestCase):
     def test_numbers_are_whole_numbers_and_no_truths(self):
-        for told in (base_at(CLOCK, 1), worth_at(CLOCK, 0), worth_at(CLOCK, 2), number_of(CLOCK, ())):
+        for told in (
+            base_at(CLOCK, 1),
+            worth_at(CLOCK, 0),
+            worth_at(CLOCK, 2),
+            number_of(CLOCK, ()),
+            order_number(()),
+            order_number((1, 0)),
+            orders_apart((1, 0), (0, 1)),
+            exchanged(CLOCK, DECIMAL, ())[1],
+            exchanged(CLOCK, DECIMAL, (1, 0))[1],
+        ):
             self.assertIs(type(told), int)
 
     def test_rows_are_tuples_of_whole_numbers(self):
@@ -100,10 +133,30 @@ class KindsTest(unittest.TestCase):
             added(CLOCK, (), ()),
             taken_off(CLOCK, (10, 0, 4), (20,)),
             taken_off(CLOCK, (10,), (10,)),
+            multiplied(CLOCK, (50, 59), 2),
+            multiplied(CLOCK, (), 2),
+            divided(CLOCK, (50, 59), 2),
+            divided(CLOCK, (), 2),
+            fraction_digits(DECIMAL, (1, 6)),
+            fraction_digits(DECIMAL, (0, 1)),
+            fraction_digits(CLOCK, (1, 2)),
         ):
             self.assertIs(type(told), tuple)
             self.assertEqual(len(told), 2)
             self.assertTrue(is_row(told[0]) and is_row(told[1]))
+        for told in (order_of(0, 0), order_of(1, 0), order_of(4, 7), next_order((0, 2, 1))):
+            self.assertTrue(is_row(told))
+
+    def test_an_exchange_is_a_pair_of_row_and_number(self):
+        for told in (exchanged(CLOCK, DECIMAL, (50, 59)), exchanged(CLOCK, DECIMAL, ())):
+            self.assertIs(type(told), tuple)
+            self.assertEqual(len(told), 2)
+            self.assertTrue(is_row(told[0]))
+
+    def test_a_fraction_is_a_pair_of_whole_numbers(self):
+        for told in (fraction_of(DECIMAL, (1,), (6,)), fraction_of(CLOCK, (), ()), fraction_of(DECIMAL, (), (9,))):
+            self.assertTrue(is_row(told))
+            self.assertEqual(len(told), 2)
 
     def test_the_looker_tells_a_truth(self):
         self.assertIs(type(sum_shown(CLOCK, (1,), (1,), (2,), (0,))), bool)
