@@ -113,6 +113,53 @@ class FormTest(unittest.TestCase):
                 if isinstance(node, ast.arg):
                     self.assertNotIn(node.arg, vars(builtins), (path.name, node.arg))
 
+    def test_only_written_exponents(self):
+        for path in files():
+            for node in nodes(path):
+                if isinstance(node, (ast.BinOp, ast.AugAssign)) and isinstance(node.op, ast.Pow):
+                    exponent = node.right if isinstance(node, ast.BinOp) else node.value
+                    self.assertIsInstance(exponent, ast.Constant, (path.name, node.lineno))
+                    self.assertIn(exponent.value, range(65), (path.name, node.lineno))
+
+    def test_sets_only_counted_sorted_or_asked(self):
+        for path in files():
+            every = nodes(path)
+            asked = [part for node in every if isinstance(node, ast.Compare) for part in node.comparators + [node.left]]
+            for node in every:
+                if isinstance(node, ast.Call) and isinstance(node.func, ast.Name) and node.func.id in ("len", "sorted"):
+                    asked.extend(node.args)
+            for node in every:
+                self.assertNotIsInstance(node, ast.Set, path.name)
+                if isinstance(node, ast.Call) and isinstance(node.func, ast.Name) and node.func.id == "set":
+                    self.assertIn(node, asked, (path.name, node.lineno))
+
+    def test_one_for_in_a_comprehension(self):
+        for path in files():
+            for node in nodes(path):
+                if isinstance(node, ast.ListComp):
+                    self.assertEqual(len(node.generators), 1, (path.name, node.lineno))
+                    self.assertLessEqual(len(node.generators[0].ifs), 1, (path.name, node.lineno))
+
+    def test_is_beside_none_and_truths_alone(self):
+        for path in files():
+            for node in nodes(path):
+                if isinstance(node, ast.Compare):
+                    for operator, right in zip(node.ops, node.comparators):
+                        if isinstance(operator, (ast.Is, ast.IsNot)):
+                            self.assertIsInstance(right, ast.Constant, (path.name, node.lineno))
+                            self.assertIn(right.value, (None, True, False), (path.name, node.lineno))
+
+    def test_no_two_files_draw_from_one_another(self):
+        drawn = {}
+        for path in files():
+            modules = [node.module for node in nodes(path) if isinstance(node, ast.ImportFrom)]
+            drawn[path.stem] = {module.split(".")[1] for module in modules}
+        while drawn:
+            free = [name for name in drawn if not drawn[name] & set(drawn)]
+            self.assertNotEqual(free, [], drawn)
+            for name in free:
+                del drawn[name]
+
     def test_methods(self):
         for path in files():
             for node in nodes(path):

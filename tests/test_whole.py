@@ -3,9 +3,13 @@
 import copy
 import unittest
 
+from mixedscales.counters import change_at, closed_round, round_shown, row_at, step_of
 from mixedscales.errors import ScaleError
 from mixedscales.fractions import fraction_digits, fraction_of
+from mixedscales.least import least_scale, scale_with
+from mixedscales.money import paid, way_at, ways_many
 from mixedscales.orders import next_order, order_number, order_of, orders_apart
+from mixedscales.others import judged_digits, paper_shown
 from mixedscales.products import divided, exchanged, multiplied
 from mixedscales.scales import base_at, digits_of, number_of, worth_at
 from mixedscales.sums import added, sum_shown, taken_off
@@ -56,6 +60,34 @@ ASKED = (
     (fraction_digits, (CLOCK, (1, 7))),
     (fraction_of, (DECIMAL, (1,), (6, 6))),
     (fraction_of, (DECIMAL, (1,), (6, 10))),
+    (judged_digits, (3, (1, 0, -1))),
+    (judged_digits, (4, (2, 1, 0, -1))),
+    (judged_digits, (3, (2, 1, 0))),
+    (judged_digits, (3, (2, 1, 0, -1))),
+    (judged_digits, (3, (999, 1, 0, -1))),
+    (paper_shown, (3, (1, 0, -1), {1: (1,), 0: (), -1: (-1,)})),
+    (paper_shown, (3, (1, 0, -1), {1: (1,), 0: (), 2: (-1, 1)})),
+    (row_at, ((3, 2), 4)),
+    (row_at, ((3, 2), 6)),
+    (step_of, ((3, 2), (1, 1))),
+    (step_of, ((3, 2), (1,))),
+    (change_at, ((3, 2), 4)),
+    (change_at, ((3, 2), 5)),
+    (change_at, ((3, 2), -1)),
+    (round_shown, ((2, 2), [(0, 0), (1, 0), (1, 1), (0, 1)])),
+    (round_shown, ((2, 2), [(1, 1), (0, 0), (1, 0), (0, 1)])),
+    (closed_round, ((3, 4),)),
+    (closed_round, ((2,),)),
+    (closed_round, ((),)),
+    (closed_round, ((3, 3),)),
+    (paid, (CLOCK, 10 ** 6)),
+    (ways_many, (CLOCK, 10 ** 6)),
+    (way_at, (CLOCK, 10 ** 6, 10 ** 4)),
+    (way_at, (CLOCK, 10 ** 6, 10 ** 60)),
+    (least_scale, (1000,)),
+    (least_scale, (1,)),
+    (scale_with, ((86400, 60, 60, 3600),)),
+    (scale_with, ((60, 90),)),
 )
 
 
@@ -110,6 +142,31 @@ class SameAgainTest(unittest.TestCase):
         self.assertEqual(told, before)
 
 
+    def test_what_is_told_is_the_askers_own(self):
+        # Whatever the asker does with what was told, the same asked again is answered as before.
+        first = [answer(asked, handed) for asked, handed in ASKED]
+        before = copy.deepcopy(first)
+        for told in first:
+            for part in (told, told[-1] if type(told) is tuple and told else None):
+                if type(part) in (list, dict):
+                    part.clear()
+        self.assertNotEqual(first, before)
+        self.assertEqual([answer(asked, handed) for asked, handed in ASKED], before)
+
+    def test_what_becomes_of_what_was_handed_in_does_not_matter(self):
+        rows = closed_round((2, 3))
+        told = round_shown((2, 3), rows)
+        rows.reverse()
+        rows.pop()
+        self.assertEqual(told, (True, True))
+        self.assertEqual(round_shown((2, 3), closed_round((2, 3))), (True, True))
+        paper = judged_digits(3, (-1, 0, 1))[1]
+        told = paper_shown(3, (-1, 0, 1), paper)
+        paper.clear()
+        self.assertIs(told, True)
+        self.assertIs(paper_shown(3, (-1, 0, 1), paper), False)
+
+
 class KindsTest(unittest.TestCase):
     def test_numbers_are_whole_numbers_and_no_truths(self):
         for told in (
@@ -122,6 +179,17 @@ class KindsTest(unittest.TestCase):
             orders_apart((1, 0), (0, 1)),
             exchanged(CLOCK, DECIMAL, ())[1],
             exchanged(CLOCK, DECIMAL, (1, 0))[1],
+            judged_digits(2, (0, 1))[1],
+            judged_digits(2, (0, -1))[1],
+            step_of((), ()),
+            step_of((2,), (1,)),
+            change_at((2, 2), 0)[0],
+            change_at((2, 2), 0)[1],
+            paid(CLOCK, 0)[1],
+            paid(CLOCK, 1)[1],
+            ways_many(CLOCK, 0),
+            ways_many(((), ()), 1),
+            least_scale(2)[1][0][0],
         ):
             self.assertIs(type(told), int)
 
@@ -157,6 +225,32 @@ class KindsTest(unittest.TestCase):
         for told in (fraction_of(DECIMAL, (1,), (6,)), fraction_of(CLOCK, (), ()), fraction_of(DECIMAL, (), (9,))):
             self.assertTrue(is_row(told))
             self.assertEqual(len(told), 2)
+
+    def test_other_rows_are_tuples_of_whole_numbers(self):
+        for told in (
+            row_at((), 0), row_at((2, 2), 3), change_at((2, 2), 1), paid(CLOCK, 0)[0], paid(CLOCK, 1)[0],
+            way_at(CLOCK, 7, 0), way_at(((), ()), 0, 0), least_scale(1)[0], least_scale(77)[0], least_scale(77)[1][2][1],
+            scale_with(())[0], scale_with((2, 6))[0], scale_with((2, 6))[1],
+        ) + judged_digits(3, (-1, 0, 1, 2))[1:] + tuple(judged_digits(4, (-1, 0, 1, 2))[1].values()):
+            self.assertTrue(is_row(told), told)
+        for told in (
+            judged_digits(2, (0, 1)), judged_digits(3, (-1, 0, 1)), judged_digits(3, (-1, 0, 1, 2)), least_scale(1),
+            least_scale(1)[1], least_scale(77)[1], least_scale(77)[1][0], round_shown((2,), []), paid(CLOCK, 5),
+            scale_with((2,)),
+        ):
+            self.assertIs(type(told), tuple)
+
+    def test_a_list_or_a_dict_only_where_one_is_named(self):
+        self.assertIs(type(judged_digits(3, (-1, 0, 1))[1]), dict)
+        for bases in ((), (2,), (2, 3)):
+            self.assertIs(type(closed_round(bases)), list)
+            self.assertTrue(all(is_row(row) for row in closed_round(bases)))
+
+    def test_the_other_lookers_tell_truths(self):
+        for paper in ({}, {1: (1,), 0: (), -1: (-1,)}):
+            self.assertIs(type(paper_shown(3, (1, 0, -1), paper)), bool)
+        for bases, rows in (((), [()]), ((2,), []), ((3,), [(0,), (1,), (2,)]), ((2,), [(1,), (0,)])):
+            self.assertEqual([type(truth) for truth in round_shown(bases, rows)], [bool, bool])
 
     def test_the_looker_tells_a_truth(self):
         self.assertIs(type(sum_shown(CLOCK, (1,), (1,), (2,), (0,))), bool)
